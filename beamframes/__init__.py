@@ -1,0 +1,1 @@
+"""Beamframes: frames of pulses and gaps, read within tolerances."""
