@@ -77,3 +77,15 @@ class Ratio:
         if not isinstance(other, Ratio):
             return NotImplemented
         return Ratio(self._num * other._num, self._den * other._den)
+
+
+def need_ratio(thing):
+    """The ratio itself; BadRatio of what is no Ratio."""
+    if not isinstance(thing, Ratio):
+        raise BadRatio(thing)
+    return thing
+
+
+def is_below_one(thing):
+    """Whether a thing is a Ratio less than 1."""
+    return isinstance(thing, Ratio) and thing.num < thing.den

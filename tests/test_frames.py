@@ -1,13 +1,13 @@
 """Frames of words, and words of frames."""
 
 import unittest
-from itertools import groupby
 
 from beamframes import frames
 from beamframes.errors import BadTable, BadWord
 from beamframes.frames import begin_of, frame_of, is_end, steps_of, word_of
 from beamframes.ratios import Ratio
 from beamframes.tables import words_of
+from tests.told import told_frame
 
 PAIRS = ("pairs", (8, 4), (1, 1), (1, 3), 1, 2)
 HALVES = ("halves", 5, 2)
@@ -32,18 +32,6 @@ NO_TABLES = (
     (("pairs", (8, 4), (1, 1), (1, 3), 100000, 2), "stop"), (("pairs", (8, 4), (1, 1), (1, 3), 1, True), "bits"),
     (("halves", 0, 2), "unit"), (("halves", True, 2), "unit"), (("halves", 5, 9), "bits"),
 )
-
-
-def told_frame(table, word):
-    """The frame by the words of the document: one letter for each UNIT, like ones put together."""
-    if table[0] == "pairs":
-        _, header, zero, one, stop, _ = table
-        return header + sum([(zero, one)[bit] for bit in word], ()) + (stop,)
-    letters = "PG" + "".join(("GP", "PG")[bit] for bit in word)
-    runs = [(letter, len(list(run))) for letter, run in groupby(letters)]
-    if runs[-1][0] == "G":
-        runs.pop()
-    return tuple(size * table[1] for _, size in runs)
 
 
 class FrameTest(unittest.TestCase):
