@@ -4,12 +4,16 @@ import unittest
 
 from beamframes.bursts import nearest
 from beamframes.confusing import need_of, taken
-from beamframes.errors import BadTable
+from beamframes.desk import Desk
+from beamframes.ears import Ear, tried
+from beamframes.errors import BadTable, BadText
 from beamframes.frames import begin_of, frame_of, steps_of, word_of
 from beamframes.limits import is_safe, limit_of, margin_of
+from beamframes.presses import counted, first_wrong, wrong_row
 from beamframes.ratios import Ratio
 from beamframes.receivers import reads
 from beamframes.tables import is_word, need_table, words_of
+from beamframes.texts import read_burst, read_table, table_text
 
 
 class ExamplesTest(unittest.TestCase):
@@ -78,6 +82,42 @@ class ExamplesTest(unittest.TestCase):
             [str(limit_of(receiver)), margin_of(receiver)[0], str(margin_of(receiver)[1])], ["7/12", "to", "1/4"]
         )
         self.assertEqual([is_safe(receiver, Ratio(1, 4)), is_safe(receiver, Ratio(1, 3))], [True, False])
+
+    def test_presses(self):
+        row = (("press", 0, True), ("hold", False), ("hold", True))
+        self.assertEqual(
+            [counted(("same", 1), 1, row), first_wrong(("same", 1), 1, row), first_wrong(("same", 2), 1, row)],
+            [((0, 0), (2, 0)), 2, None],
+        )
+        self.assertEqual(
+            [wrong_row(("short",), 2, 1, 3), wrong_row(("same", 2), 1, 1, 2)],
+            [(("press", 0, False), ("hold", True)), None],
+        )
+
+    def test_texts(self):
+        self.assertEqual(
+            [table_text(("pairs", (), (1, 1), (1, 3), 1, 1)), read_table("halves 5 2")],
+            ["pairs / 1 1 / 1 3 / 1 / 1", ("halves", 5, 2)],
+        )
+        with self.assertRaises(BadText) as caught:
+            read_burst("1 x 1")
+        self.assertEqual(caught.exception.word, 2)
+
+    def test_ears(self):
+        receiver = ((("pairs", (), (1, 1), (1, 3), 1, 1), Ratio(1, 4)),)
+        ear = Ear(receiver)
+        first = ear((Ratio(1), Ratio(3), Ratio(1)))
+        rest = tried(ear, (Ratio(1), Ratio(2), Ratio(1)))
+        self.assertEqual([first, rest, ear.heard, ear.changes], [(0, (1,)), [None], ((0, (1,)),), 1])
+
+    def test_desk(self):
+        desk = Desk()
+        first = desk.execute("add 1/4 pairs / 1 1 / 1 3 / 1 / 1")
+        self.assertEqual(
+            [first, desk.execute("send 0 1"), desk.execute("hear 1 5/4 1"), desk.execute("limit"),
+             desk.execute("margin")],
+            ["done", "1 3 1", "0 0", "7/12", "to 1/4"],
+        )
 
 
 if __name__ == "__main__":
