@@ -9,9 +9,10 @@ def frame_of(table, word):
     """The frame of a word: a tuple of durations, of a pulse and a gap by turns."""
     if not is_word(table, word):
         raise BadWord(word)
-    if is_pairs(table):
-        return frame_of_pairs(table, word)
-    return frame_of_halves(table, word)
+    frame = list(begin_of(table)[1])
+    for at, bit in enumerate(word):
+        frame.extend(part_of(table, under_way_at(table, len(frame)), bit, at + 1 == len(word)))
+    return tuple(frame)
 
 
 def word_of(table, frame):
@@ -55,32 +56,30 @@ def is_pairs(table):
     return table[0] == "pairs"
 
 
-def frame_of_pairs(table, word):
-    """The frame of a word for a table of pairs."""
-    header, zero, one, stop = table[1:5]
-    frame = list(header)
-    for bit in word:
-        frame.extend(one if bit == 1 else zero)
-    frame.append(stop)
-    return tuple(frame)
+def under_way_at(table, size):
+    """What is under way behind some bits of a frame, as OPEN tells it, where so many durations come ahead of it."""
+    if is_pairs(table):
+        return ""
+    return "pulse" if size % 2 == 0 else "gap"
 
 
-def frame_of_halves(table, word):
-    """The frame of a word for a table of halves."""
+def part_of(table, under_way, bit, is_last):
+    """The durations that a bit adds to a frame in which something is under way; the last bit adds the end, too."""
+    if is_pairs(table):
+        zero, one, stop = table[2:5]
+        part = one if bit == 1 else zero
+        return (*part, stop) if is_last else part
     unit = table[1]
-    halves = ["pulse", "gap"]
-    for bit in word:
-        halves.extend([first_half(bit), other_half(first_half(bit))])
-    # A gap at the end cannot be told from the silence behind it.
-    if halves[-1] == "gap":
-        halves.pop()
-    frame = [unit]
-    for before, half in zip(halves, halves[1:]):
-        if half == before:
-            frame[-1] += unit
-        else:
-            frame.append(unit)
-    return tuple(frame)
+    part = (2 * unit,) if first_half(bit) == under_way else (unit, unit)
+    # A gap at the end cannot be told from the silence behind it, but a pulse is there.
+    if is_last and half_behind(under_way, part) == "pulse":
+        return (*part, unit)
+    return part
+
+
+def half_behind(under_way, part):
+    """What is under way behind a part of a frame."""
+    return under_way if len(part) == 2 else other_half(under_way)
 
 
 def first_half(bit):
@@ -95,36 +94,12 @@ def other_half(half):
 
 def settled(table, place, bit):
     """The place, not read further, at which a bit is settled behind a place without rest."""
-    known = place[0] + 1
-    is_last = known == bits_of(table)
-    if is_pairs(table):
-        rest, under_way = settled_pairs(table, bit, is_last)
-    else:
-        rest, under_way = settled_halves(table[1], place[2], bit, is_last)
-    return (known, rest, under_way)
-
-
-def settled_pairs(table, bit, is_last):
-    """REST and OPEN behind a bit of pairs."""
-    zero, one, stop = table[2:5]
-    rest = one if bit == 1 else zero
-    if is_last:
-        return (*rest, stop), ""
-    return rest, ""
-
-
-def settled_halves(unit, under_way, bit, is_last):
-    """REST and OPEN behind a bit of halves."""
-    if first_half(bit) == under_way:
-        rest = (2 * unit,)
-        last_half = other_half(under_way)
-    else:
-        rest = (unit, unit)
-        last_half = under_way
-    # Nothing comes that could end a pulse at the end, so it has to be read here.
-    if is_last and last_half == "pulse":
-        return (*rest, unit), "gap"
-    return rest, last_half
+    known, _, under_way = place
+    is_last = known + 1 == bits_of(table)
+    rest = part_of(table, under_way, bit, is_last)
+    if under_way != "":
+        under_way = "gap" if is_last else half_behind(under_way, rest)
+    return (known + 1, rest, under_way)
 
 
 def step_from(bit, place):

@@ -1,10 +1,10 @@
 """Receivers: tables, each with a tolerance, and what they read."""
 
-from beamframes.bursts import fits, need_burst
+from beamframes.bursts import least_word, need_burst
 from beamframes.errors import BadReceiver, BadTable
 from beamframes.frames import frame_of
 from beamframes.ratios import is_below_one
-from beamframes.tables import is_word, need_table, words_of
+from beamframes.tables import is_word, need_table
 from beamframes.whole import is_whole_from
 
 MOST_PAIRS = 4
@@ -25,9 +25,9 @@ def reads(receiver, burst):
     need_receiver(receiver)
     need_burst(burst)
     for index, (table, tolerance) in enumerate(receiver):
-        for word in words_of(table):
-            if fits(burst, frame_of(table, word), tolerance):
-                return (index, word)
+        word = least_word(table, burst, tolerance)
+        if word is not None:
+            return (index, word)
     return None
 
 
